@@ -2,10 +2,12 @@ package file_test
 
 import (
 	"math"
+	"os"
+	"os/exec"
 	"runtime"
+	"runtime/metrics"
 	"slices"
 	"testing"
-	"time"
 
 	"burin/api"
 	"burin/dict"
@@ -299,31 +301,36 @@ func TestCapWhileGrowing(t *testing.T) {
 	}
 }
 
-// peak tells how much memory was in use at most while something was done.
-func peak(work func()) uint64 {
-	runtime.GC()
-	done, most := make(chan struct{}), make(chan uint64)
-	go func() {
-		var now runtime.MemStats
-		top := uint64(0)
-		for {
-			runtime.ReadMemStats(&now)
-			top = max(top, now.HeapAlloc)
-			select {
-			case <-done:
-				most <- top
-				return
-			case <-time.After(time.Millisecond):
-			}
-		}
-	}()
-	work()
-	close(done)
-	return <-most
+// apart tells, in the environment, a test that it runs in a process of its own.
+const apart = "BURIN_TEST_APART"
+
+// runApart runs a test in a process of its own, in which all else stands still while the runtime collects: what it finds to be in use then doesn't hang on how busy the machine is.
+func runApart(t *testing.T) {
+	t.Helper()
+	self, err := os.Executable()
+	if err != nil {
+		t.Fatal(err)
+	}
+	c := exec.Command(self, "-test.run=^"+t.Name()+"$", "-test.timeout=10m")
+	c.Env = append(os.Environ(), apart+"=1", "GODEBUG=gcstoptheworld=2", "GOGC=100", "GOMEMLIMIT=off")
+	if told, err := c.CombinedOutput(); err != nil {
+		t.Errorf("%v: %s", err, told)
+	}
+}
+
+// inUse tells how much memory was in use when the runtime collected last, and how often it has collected.
+func inUse() (bytes, cycles uint64) {
+	told := []metrics.Sample{{Name: "/gc/heap/live:bytes"}, {Name: "/gc/cycles/total:gc-cycles"}}
+	metrics.Read(told)
+	return told[0].Value.Uint64(), told[1].Value.Uint64()
 }
 
 // TestLetGo: P17.6, P17.7 (T6): what a dictionary that is let go has handed on is kept no more.
 func TestLetGo(t *testing.T) {
+	if os.Getenv(apart) == "" {
+		runApart(t)
+		return
+	}
 	b := blank(1, 1<<16) // a word a row
 	l := []api.Segment{stays(seg(api.SegDict, 0, dictOf(nil, b)))}
 	next := dictBytes(api.Dict{Template: 3, New: []api.Bitmap{b}, Export: []bool{false, true}}, []api.Bitmap{b})
@@ -331,8 +338,11 @@ func TestLetGo(t *testing.T) {
 		l = append(l, stays(seg(api.SegDict, 0, next, n)))
 	}
 	f := laid(0, row(append(l, endFile)...), false)
-	if most := peak(func() { taken(t, f, api.OK) }); most > 1<<25 {
-		t.Errorf("%d bytes were in use", most)
+	_, before := inUse()
+	taken(t, f, api.OK)
+	most, behind := inUse()
+	if most > 1<<24 || behind == before {
+		t.Errorf("%d bytes were in use at the last of %d collections", most, behind-before)
 	}
 }
 
